@@ -44,7 +44,7 @@ def smallest(moves, bad):
     for state, sort in enumerate(sorts):
         firsts.setdefault(sort, state)
     met, rows = met_from(sorts[0], lambda one: sorts_of(moves[firsts[one]], sorts))
-    return (rows, [bad[firsts[sort]] for sort in met])
+    return (rows, [bad[firsts[one]] for one in met])
 
 
 def sorts_of(row, sorts):
