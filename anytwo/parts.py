@@ -5,7 +5,7 @@ number: bit s stands for the state s.
 """
 
 from anytwo.letters import LETTERS
-from anytwo.smallest import all_letters, met_from, smallest
+from anytwo.smallest import all_letters, met_beside, met_from, smallest
 
 
 def part_table(part):
@@ -36,7 +36,7 @@ def letter_table(wanted):
 
 def both_table(word, one, two):
     """The words of an "or" or an "and"."""
-    met, moves = met_from((0, 0), lambda at: list(zip(one[0][at[0]], two[0][at[1]])))
+    met, moves = met_beside(one[0], two[0])
     if word == "or":
         bad = [one[1][first] or two[1][second] for first, second in met]
     else:

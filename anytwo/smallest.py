@@ -34,6 +34,14 @@ def met_from(first, leads):
     return (met, moves)
 
 
+def met_beside(one, two):
+    """All pairs of states that two tables come to by the same words, and the moves between their numbers.
+
+    one and two are the moves of the two tables.
+    """
+    return met_from((0, 0), lambda at: list(zip(one[at[0]], two[at[1]])))
+
+
 def smallest(moves, bad):
     """The table with the fewest states in which the same words lead to bad states.
 
@@ -53,22 +61,59 @@ def sorts_of(row, sorts):
 
 
 def sorted_out(moves, bad):
-    """A number for each state, the same for two states if the same words lead from them to bad states."""
-    sorts = [int(is_bad) for is_bad in bad]
-    many = len(set(sorts))
-    while True:
-        finer = {}
-        next_sorts = []
-        for state, row in enumerate(moves):
-            sight = (sorts[state], *sorts_of(row, sorts))
-            next_sorts.append(finer.setdefault(sight, len(finer)))
+    """A number for each state, the same for two states if the same words lead from them to bad states.
+
+    A sort is parted where its states lead to unlike sorts. One piece keeps the number, a large one if it may be, for
+    only states that lead to one with a new number need to be looked at again.
+    """
+    sorts = [0] * len(moves)
+    sizes = [len(moves)]
+    ahead = states_ahead(moves)
+    fresh = part_sorts(pieces_of(list(range(len(moves))), [(0, is_bad) for is_bad in bad]), sorts, sizes)
+    while fresh:
         # States that differ once differ for ever, so more need not be sorted out.
-        if len(finer) > MOST_STATES:
+        if len(sizes) > MOST_STATES:
             raise TooMany(MOST_STATES + 1)
-        if len(finer) == many:
-            return sorts
-        sorts = next_sorts
-        many = len(finer)
+        looked_at = sorted(set([state for one in fresh for state in ahead[one]]))
+        sights = [(sorts[state], *sorts_of(moves[state], sorts)) for state in looked_at]
+        fresh = part_sorts(pieces_of(looked_at, sights), sorts, sizes)
+    return sorts
+
+
+def states_ahead(moves):
+    """For each state those from which a letter leads to it."""
+    ahead = [[] for _ in moves]
+    for state, row in enumerate(moves):
+        for onward in row:
+            ahead[onward].append(state)
+    return ahead
+
+
+def pieces_of(states, sights):
+    """A dict from each sight, which begins with the sort, to the states that have it."""
+    pieces = {}
+    for state, sight in zip(states, sights):
+        pieces.setdefault(sight, []).append(state)
+    return pieces
+
+
+def part_sorts(pieces, sorts, sizes):
+    """Give new numbers to the pieces of sorts, all but one of each sort; return the states that got one."""
+    of_sort = {}
+    for sight, piece in pieces.items():
+        of_sort.setdefault(sight[0], []).append(piece)
+    fresh = []
+    for sort, parted in of_sort.items():
+        # The states of the sort that were not looked at, if there are any, are the piece that keeps the number.
+        if sum([len(piece) for piece in parted]) == sizes[sort]:
+            parted = sorted(parted, key=len)[:-1]
+        for piece in parted:
+            sizes[sort] -= len(piece)
+            for state in piece:
+                sorts[state] = len(sizes)
+            sizes.append(len(piece))
+            fresh.extend(piece)
+    return fresh
 
 
 def least_table(moves, bad):

@@ -8,71 +8,10 @@ from anytwo.rules import made_rule, word_in
 from anytwo.tables import least, table
 from expressions import behind_the_last, breaks, chain, led, random_rule, random_word
 from helpers import deep, odd_values, refusal
+from made_tables import NONE, doubled, random_table, ring, row, slow_least, slow_size, turned
 
 ANY = ("any",)
-NONE = (((0,) * 17,), (False,))
 STAR = ("star", ANY)
-MAKING = 16
-
-
-def row(state, **more):
-    """A row of which all letters lead to this state, but for those named: e_u, y_new .."""
-    told = {name.replace("_", "."): onward for name, onward in more.items()}
-    return tuple(told.get(letter, state) for letter in LETTERS)
-
-
-def random_table(source, many, bad_share, letters=17):
-    """A table in which only the last letters, y.new among them, lead elsewhere."""
-    moves = []
-    for state in range(many):
-        onward = [source.randrange(many) for _ in range(letters)]
-        moves.append((state,) * (17 - letters) + tuple(onward))
-    return (tuple(moves), tuple(source.random() < bad_share for _ in range(many)))
-
-
-def slow_least(table_):
-    """The least table, by marking the pairs of states that differ; of any number of states."""
-    moves, bad = table_
-    met = [(0, False)]
-    for state, seen in met:
-        for letter in range(17):
-            onward = (moves[state][letter], seen or letter == MAKING)
-            if onward not in met:
-                met.append(onward)
-    at = {one: number for number, one in enumerate(met)}
-    rows = [[at[(moves[state][k], seen or k == MAKING)] for k in range(17)] for state, seen in met]
-    ends = [seen and bad[state] for state, seen in met]
-    differ = {(one, two) for one in range(len(met)) for two in range(len(met)) if ends[one] != ends[two]}
-    grown = True
-    while grown:
-        grown = False
-        for one in range(len(met)):
-            for two in range(one):
-                if (one, two) not in differ:
-                    if any((rows[one][k], rows[two][k]) in differ for k in range(17)):
-                        differ |= {(one, two), (two, one)}
-                        grown = True
-    like = [min(two for two in range(len(met)) if (one, two) not in differ) for one in range(len(met))]
-    order = [0]
-    for one in order:
-        for k in range(17):
-            if like[rows[one][k]] not in order:
-                order.append(like[rows[one][k]])
-    number = {one: at for at, one in enumerate(order)}
-    return (
-        tuple(tuple(number[like[rows[one][k]]] for k in range(17)) for one in order),
-        tuple(ends[one] for one in order),
-    )
-
-
-def ring(many, bad, letter=5):
-    """A table that goes round by one letter, and stays by all others."""
-    moves = []
-    for state in range(many):
-        onward = [state] * 17
-        onward[letter] = (state + 1) % many
-        moves.append(tuple(onward))
-    return (tuple(moves), tuple(state in bad for state in range(many)))
 
 
 class TestAsking(unittest.TestCase):
@@ -225,15 +164,23 @@ class TestLeast(unittest.TestCase):
     def test_two_tables_of_the_same_words(self):
         source = random.Random(10)
         for _ in range(40):
-            many = source.randint(2, 8)
-            moves, bad = random_table(source, many, 0.4, 3)
-            order = [0] + source.sample(range(1, many), many - 1)
-            where = [order.index(state) for state in range(many)]
-            turned = (
-                tuple(tuple(where[onward] for onward in moves[state]) for state in order),
-                tuple(bad[state] for state in order),
-            )
-            self.assertEqual(least(turned), least((moves, bad)))
+            told = random_table(source, source.randint(2, 8), 0.4, 3)
+            self.assertEqual(least(turned(source, told)), least(told))
+            self.assertEqual(least(doubled(source, told)), least(told))
+
+    def test_beside_the_slow_way_of_many_states(self):
+        source = random.Random(15)
+        refused = 0
+        for _ in range(40):
+            many = source.randint(20, 200)
+            told = random_table(source, many, source.choice((0.02, 0.5)), source.choice((2, 3, 17)))
+            size = len(slow_size(told))
+            got = refusal(least, told)
+            refused += got is not None
+            self.assertEqual(got, ("TooMany", 201) if size > 200 else None)
+            if got is None:
+                self.assertEqual(len(least(told)[0]), size)
+        self.assertTrue(5 < refused < 35)
 
     def test_kinds_of_values(self):
         moves, bad = least(ring(5, (2,)))
@@ -277,29 +224,6 @@ class TestLeast(unittest.TestCase):
             begun = time.monotonic()
             refusal(least, told)
             self.assertLess(time.monotonic() - begun, 10)
-
-
-def slow_size(table_):
-    """The sorts of states that the least table would have, by refining: of any number of states."""
-    moves, bad = table_
-    met = [(0, False)]
-    known = set(met)
-    for state, seen in met:
-        for k in range(17):
-            onward = (moves[state][k], seen or k == MAKING)
-            if onward not in known:
-                known.add(onward)
-                met.append(onward)
-    sort = {(state, seen): seen and bad[state] for state, seen in met}
-    while True:
-        finer = {
-            (state, seen): (sort[state, seen],) + tuple(sort[moves[state][k], seen or k == MAKING] for k in range(17))
-            for state, seen in met
-        }
-        number = {sight: at for at, sight in enumerate(dict.fromkeys(finer.values()))}
-        if len(number) == len(set(sort.values())):
-            return set(sort.values())
-        sort = {one: number[sight] for one, sight in finer.items()}
 
 
 class TestTable(unittest.TestCase):
