@@ -11,3 +11,8 @@ MAKING = 16
 def is_word(thing):
     """Whether thing is a tuple of letters."""
     return isinstance(thing, tuple) and all([part in LETTERS for part in thing])
+
+
+def numbers_of(letters):
+    """The numbers of these letters, by which words are ordered."""
+    return tuple([LETTERS.index(letter) for letter in letters])

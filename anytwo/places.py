@@ -3,7 +3,7 @@
 from anytwo.errors import BadPlace
 from anytwo.layouts import end_of, laid_out
 from anytwo.programs import made_program
-from anytwo.values import is_number
+from anytwo.values import is_row_of_numbers
 
 
 def places(program):
@@ -15,14 +15,10 @@ def places(program):
 def next_place(program, place):
     """The place at which a play goes on behind the statement at place, which is no loop and no either."""
     laid = laid_out(made_program(program))
+    # A tuple with True in it would be found as one with 1.
     if not is_row_of_numbers(place) or place not in laid:
         raise BadPlace(place)
     statement, behind = laid[place]
     if statement[0] in ("loop", "either"):
         raise BadPlace(place)
     return behind
-
-
-def is_row_of_numbers(thing):
-    """Whether thing is a tuple of numbers; a tuple with True in it would be found as one with 1."""
-    return isinstance(thing, tuple) and all([is_number(part) for part in thing])

@@ -1,6 +1,6 @@
 """What a table is."""
 
-from anytwo.errors import BadTable, TooMany
+from anytwo.errors import BadTable, Refused, TooMany
 from anytwo.letters import LETTERS
 from anytwo.values import is_number
 
@@ -36,3 +36,19 @@ def is_row(row, many):
     if not isinstance(row, tuple) or len(row) != len(LETTERS):
         return False
     return all([is_number(state) and 0 <= state < many for state in row])
+
+
+def is_table(thing):
+    """Whether thing is a table."""
+    try:
+        made_table(thing)
+    except Refused:
+        return False
+    return True
+
+
+def led(moves, state, numbers):
+    """The state to which the letters with these numbers lead from a state."""
+    for number in numbers:
+        state = moves[state][number]
+    return state

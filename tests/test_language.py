@@ -21,6 +21,13 @@ INTERFACE = {
     "words": {"pair_word": ["program", "choices", "i", "j"]},
     "rules": {"made_rule": ["thing"], "is_rule": ["thing"], "word_in": ["rule", "word"]},
     "tables": {"table": ["rule"], "least": ["table_"]},
+    "tablesums": {
+        "joined": ["one", "two", "word"], "word_table": ["word"], "apart": ["one", "two"],
+        "implies_not": ["one", "two"], "implies": ["one", "two"],
+    },
+    "tabletexts": {"table_text": ["table_"], "table_of": ["text"]},
+    "walker": {"steps_of": ["program", "state"]},
+    "reach": {"reach": ["program"]},
 }
 
 BUILTINS = set((
