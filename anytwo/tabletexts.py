@@ -30,7 +30,7 @@ def table_of(text):
     bad = []
     for index, row in enumerate(rows):
         words = row.split(" ")
-        is_bad = len(words) > len(LETTERS) and words[-1] == BAD_SIGN
+        is_bad = words[-1] == BAD_SIGN
         if is_bad:
             words.pop()
         if len(words) != len(LETTERS) or not all([is_state_text(word, len(rows)) for word in words]):

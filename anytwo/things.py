@@ -9,7 +9,9 @@ MOST_THINGS = 200
 class Things:
     """All things that are made in a play, with the steps and the events so far."""
 
-    def __init__(self):
+    def __init__(self, most=MOST_THINGS):
+        # How many things may be made; None if any many may.
+        self.most = most
         self.made = 0
         self.steps = 0
         self.events = []
@@ -20,8 +22,8 @@ class Things:
         """Do one statement, no loop and no either; choice is what a take was told to take."""
         word = statement[0]
         # Asked ahead of all else, for a refused statement must not end what its name holds.
-        if word == "new" and self.made == MOST_THINGS:
-            raise TooMany(MOST_THINGS + 1)
+        if word == "new" and self.made == self.most:
+            raise TooMany(self.made + 1)
         self.steps += 1
         if word == "new":
             self.make(statement[1])
@@ -53,7 +55,15 @@ class Things:
         if thing is not None:
             self.tell("put" + pile, thing)
             self.holds[name] = None
-            self.piles[pile] = sorted(self.piles[pile] + [thing])
+            self.lay(pile, thing)
+
+    def lay(self, pile, thing):
+        """The thing lies among those of the pile, which are ascending; most come behind all others."""
+        lying = self.piles[pile]
+        at = len(lying)
+        while at > 0 and lying[at - 1] > thing:
+            at -= 1
+        lying.insert(at, thing)
 
     def take(self, pile, name, choice):
         """The name holds the thing of the pile that has this number, from 1 on, or nothing for 0."""

@@ -1,7 +1,9 @@
 """Programs for tests, and all their short plays."""
 
+from anytwo.errors import Refused
 from anytwo.places import places
 from anytwo.plays import play
+from expressions import breaks
 
 NAMES = ("a", "b", "c", "d")
 PILES = ("p", "q")
@@ -130,3 +132,37 @@ def words_of(events):
                     word.append("y." + deed)
             words[(i, j)] = tuple(word)
     return words
+
+
+def slow_break(table_, events):
+    """The first break of these events, (step, i, j), by all words of all pairs anew behind each event."""
+    for many in range(1, len(events) + 1):
+        step, _, last = events[many - 1]
+        words = words_of(events[:many])
+        for i, j in sorted(words):
+            if last in (i, j) and breaks(table_, words[(i, j)]):
+                return (step, i, j)
+    return None
+
+
+def slow_breaks_at(program, table_, choices):
+    """The same of a play, by all beginnings of the choices; None if it is refused. Not for more than 200 things."""
+    for many in range(len(choices) + 1):
+        try:
+            events = play(program, choices[:many])[0]
+        except Refused:
+            return None
+        found = slow_break(table_, events)
+        if found is not None:
+            return found
+    return None
+
+
+def met_words(source, program, most):
+    """Words of the pairs of one play, by up to so many choices at random."""
+    choices = ()
+    told = play(program, choices)
+    while len(choices) < most and bounds_at(program, told) is not None:
+        choices += (source.randint(0, bounds_at(program, told)),)
+        told = play(program, choices)
+    return [word for word in words_of(told[0]).values() if "y.new" in word]

@@ -28,6 +28,12 @@ INTERFACE = {
     "tabletexts": {"table_text": ["table_"], "table_of": ["text"]},
     "walker": {"steps_of": ["program", "state"]},
     "reach": {"reach": ["program"]},
+    "verdicts": {
+        "breaks_at": ["program", "table_", "choices"], "least_steps": ["program", "table_"],
+        "keeps": ["program", "table_"], "breaking": ["program", "table_"],
+    },
+    "yespapers": {"yes_paper": ["program", "table_"], "yes_right": ["program", "table_", "paper"]},
+    "runs": {"told_run": ["program", "table_", "choices"]},
 }
 
 BUILTINS = set((
@@ -107,6 +113,9 @@ class TestFiles(unittest.TestCase):
             for node in imports_of(tree):
                 self.assertIsInstance(node, ast.ImportFrom)
                 self.assertIn(node, tree.body)
+                if node.module == "heapq":
+                    self.assertTrue({alias.name for alias in node.names} <= {"heappush", "heappop"})
+                    continue
                 package, file = node.module.split(".")
                 self.assertEqual((package, node.level), ("anytwo", 0))
                 for alias in node.names:
@@ -121,7 +130,7 @@ class TestFiles(unittest.TestCase):
                     self.assertIn(alias.name, read, name)
 
     def test_no_round_of_imports(self):
-        leads = {name: {node.module.split(".")[1] + ".py" for node in imports_of(tree)}
+        leads = {name: {node.module.split(".")[1] + ".py" for node in imports_of(tree) if node.module != "heapq"}
                  for name, tree in self.trees.items()}
         while leads:
             free = [name for name in leads if not leads[name] & set(leads)]

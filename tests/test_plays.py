@@ -1,3 +1,4 @@
+import itertools
 import unittest
 
 from anytwo.errors import TooMany
@@ -93,6 +94,20 @@ class TestChoices(unittest.TestCase):
         self.refused(program, (2, 2), "BadChoices", 1)
         self.refused(program, (0, 3), "BadChoices", 1)
         self.refused(program, (0, -1), "BadChoices", 1)
+
+    def test_piles_are_ascending_in_whatever_order_things_are_put(self):
+        for order in itertools.permutations(range(5)):
+            # The things 0 to 4 lie in q; each take takes one of them by its number among those that are left.
+            left = list(range(5))
+            program = (NEW_A, ("put", "a", "q")) * 5
+            choices = []
+            for thing in order:
+                program += (("take", "q", "b"), ("put", "b", "p"))
+                choices.append(left.index(thing) + 1)
+                left.remove(thing)
+            for many in range(6):
+                told = play(program, tuple(choices[:many]))
+                self.assertEqual(told[4], (tuple(sorted(order[:many])), tuple(sorted(order[many:]))))
 
     def test_a_take_looks_at_its_own_pile(self):
         program = (NEW_A, ("put", "a", "q"), ("take", "p", "b"), ("take", "q", "b"))
