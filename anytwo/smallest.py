@@ -63,8 +63,8 @@ def sorts_of(row, sorts):
 def sorted_out(moves, bad):
     """A number for each state, the same for two states if the same words lead from them to bad states.
 
-    A sort is parted where its states lead to unlike sorts. One piece keeps the number, a large one if it may be, for
-    only states that lead to one with a new number need to be looked at again.
+    A sort is parted where its states lead to unlike sorts. One piece of it keeps its number: then only states that
+    lead to one with a new number can differ from the others of their sort, and only these are looked at again.
     """
     sorts = [0] * len(moves)
     sizes = [len(moves)]
@@ -104,7 +104,8 @@ def part_sorts(pieces, sorts, sizes):
         of_sort.setdefault(sight[0], []).append(piece)
     fresh = []
     for sort, parted in of_sort.items():
-        # The states of the sort that were not looked at, if there are any, are the piece that keeps the number.
+        # The states of the sort that were not looked at, if there are any, are the piece that keeps the number;
+        # otherwise the largest piece does, so that few states need to be looked at.
         if sum([len(piece) for piece in parted]) == sizes[sort]:
             parted = sorted(parted, key=len)[:-1]
         for piece in parted:
