@@ -1,6 +1,7 @@
 """The choices of a play, taken one after the other."""
 
 from anytwo.errors import BadChoices, TooMany
+from anytwo.statements import BRANCHES
 
 MOST_CHOICES = 3000
 
@@ -13,6 +14,14 @@ class Choosing:
             raise TooMany(len(choices))
         self.choices = choices
         self.taken = 0
+
+    def choice_for(self, statement, piles):
+        """The choice that the statement takes, 0 if it takes none; None if it wants one that is not there."""
+        if statement[0] in BRANCHES:
+            return self.next_one(1)
+        if statement[0] == "take":
+            return self.next_one(len(piles[statement[1]]))
+        return 0
 
     def next_one(self, most):
         """Take the next choice, which must be from 0 to most; None if there is none left."""

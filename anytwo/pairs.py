@@ -2,6 +2,9 @@
 
 from anytwo.letters import LETTERS
 
+# The deeds behind which a thing is held no longer.
+LAST_DEEDS = ("putp", "putq", "end")
+
 
 def led_by_letters(moves):
     """A dict from each letter to the states to which it leads, from each state in their order."""
@@ -9,15 +12,22 @@ def led_by_letters(moves):
 
 
 class Pairs:
-    """Each pair of things with the state of a table to which its word so far leads."""
+    """Each pair of things with the state of a table to which its word so far leads.
+
+    A thing at rest, which lies in a pile or has ended, goes through nothing until it is taken. So the things at rest
+    whose pairs with a held thing have the same state stay together as long as it is held, however much it goes through.
+    """
 
     def __init__(self, table_):
         moves, self.bad = table_
         self.led = led_by_letters(moves)
-        # For each thing the states of its pairs with the elder ones, ascending.
+        # For each thing the states of its pairs with the elder ones, ascending; those of a held thing and one at rest
+        # are kept below.
         self.rows = []
         # For each thing the state of its pairs with all that are yet to be made.
         self.alone = []
+        # For each held thing the things at rest, by its sign in the pair and the pair's state.
+        self.held = {}
         self.seen = 0
 
     def first_break(self, events):
@@ -25,43 +35,83 @@ class Pairs:
         while self.seen < len(events):
             step, deed, thing = events[self.seen]
             self.seen += 1
-            pair = self.broken_by(deed, thing)
-            if pair is not None:
-                return (step, *pair)
+            broken = self.broken_by(deed, thing)
+            if broken:
+                # Its pairs with elder things come ahead of those with younger ones.
+                return (step, *sorted((thing, min(broken))))
         return None
 
     def broken_by(self, deed, thing):
-        """The thing goes through the deed: the least pair that breaks the table by this, None if none does."""
+        """The thing goes through the deed: the other things of the pairs that break the table by this."""
         if deed == "new":
             self.rows.append(list(self.alone))
             self.alone.append(0)
-            return self.with_elders(thing, self.led["y.new"])
-        # The pairs in which the thing is the younger one come ahead of those in which it is the elder one.
-        pair = self.with_elders(thing, self.led["y." + deed])
-        other = self.with_younger(thing, self.led["e." + deed])
-        if pair is None:
-            return other
-        return pair
+        else:
+            self.alone[thing] = self.led["e." + deed][self.alone[thing]]
+        if thing not in self.held:
+            self.pick_up(thing)
+        broken = self.broken_at_rest(deed, thing) + self.broken_in_names(deed, thing)
+        if deed in LAST_DEEDS:
+            self.lay_down(thing)
+        return broken
 
-    def with_elders(self, thing, led):
-        """Its pairs with all elder things go on; the least one that breaks the table, None if none does."""
-        row = [led[state] for state in self.rows[thing]]
-        self.rows[thing] = row
-        for elder, state in enumerate(row):
-            if self.bad[state]:
-                return (elder, thing)
-        return None
+    def broken_at_rest(self, deed, thing):
+        """Its pairs with things at rest go on: those things of them with which it breaks the table."""
+        broken = []
+        together = {}
+        for (sign, state), others in self.held[thing].items():
+            key = (sign, self.led[sign + deed][state])
+            if self.bad[key[1]]:
+                broken.extend(others)
+            if key in together:
+                together[key].extend(others)
+            else:
+                together[key] = others
+        self.held[thing] = together
+        return broken
 
-    def with_younger(self, thing, led):
-        """Its pairs with all younger things go on; the least one that breaks the table, None if none does."""
-        self.alone[thing] = led[self.alone[thing]]
-        pair = None
-        for younger in range(thing + 1, len(self.rows)):
-            row = self.rows[younger]
-            row[thing] = led[row[thing]]
-            if pair is None and self.bad[row[thing]]:
-                pair = (thing, younger)
-        return pair
+    def broken_in_names(self, deed, thing):
+        """Its pairs with held things go on: those things of them with which it breaks the table."""
+        broken = []
+        for other in self.held:
+            if other != thing:
+                sign, state = self.key(thing, other)
+                behind = self.led[sign + deed][state]
+                self.note(thing, other, behind)
+                if self.bad[behind]:
+                    broken.append(other)
+        return broken
+
+    def key(self, thing, other):
+        """The sign of the thing in its pair with another one, and the state that is noted for this pair."""
+        if thing < other:
+            return ("e.", self.rows[other][thing])
+        return ("y.", self.rows[thing][other])
+
+    def note(self, thing, other, state):
+        """Note the state of the pair of two things."""
+        self.rows[max(thing, other)][min(thing, other)] = state
+
+    def pick_up(self, thing):
+        """The thing, which was just made or lay in a pile, is held from now on."""
+        for other, together in self.held.items():
+            for (_, state), others in together.items():
+                if thing in others:
+                    others.remove(thing)
+                    self.note(thing, other, state)
+        together = {}
+        for other in range(len(self.rows)):
+            if other != thing and other not in self.held:
+                together.setdefault(self.key(thing, other), []).append(other)
+        self.held[thing] = together
+
+    def lay_down(self, thing):
+        """The thing is at rest from now on."""
+        for (_, state), others in self.held.pop(thing).items():
+            for other in others:
+                self.note(thing, other, state)
+        for other, together in self.held.items():
+            together.setdefault(self.key(other, thing), []).append(thing)
 
 
 def broken_in_step(table_, events, wanted):

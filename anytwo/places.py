@@ -3,6 +3,7 @@
 from anytwo.errors import BadPlace
 from anytwo.layouts import end_of, laid_out
 from anytwo.programs import made_program
+from anytwo.statements import BRANCHES
 from anytwo.values import is_row_of_numbers
 
 
@@ -19,6 +20,6 @@ def next_place(program, place):
     if not is_row_of_numbers(place) or place not in laid:
         raise BadPlace(place)
     statement, behind = laid[place]
-    if statement[0] in ("loop", "either"):
+    if statement[0] in BRANCHES:
         raise BadPlace(place)
     return behind

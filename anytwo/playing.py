@@ -2,6 +2,7 @@
 
 from anytwo.choosing import Choosing
 from anytwo.layouts import end_of, first_place, laid_out, ways
+from anytwo.statements import BRANCHES
 from anytwo.things import Things
 
 
@@ -21,20 +22,12 @@ class Playing:
             self.choosing.ask_none_left()
             return False
         statement, behind = self.laid[self.place]
-        choice = self.choice_for(statement)
+        choice = self.choosing.choice_for(statement, self.things.piles)
         if choice is None:
             return False
-        if statement[0] in ("loop", "either"):
+        if statement[0] in BRANCHES:
             self.place = ways(self.place, statement, behind)[choice]
         else:
             self.things.do(statement, choice)
             self.place = behind
         return True
-
-    def choice_for(self, statement):
-        """The choice that the statement takes, 0 if it takes none; None if it wants one that is not there."""
-        if statement[0] in ("loop", "either"):
-            return self.choosing.next_one(1)
-        if statement[0] == "take":
-            return self.choosing.next_one(len(self.things.piles[statement[1]]))
-        return 0

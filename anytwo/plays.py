@@ -2,13 +2,11 @@
 
 from anytwo.playing import Playing
 from anytwo.programs import made_program
+from anytwo.watching import done
 
 
 def play(program, choices):
     """The play: (events, steps, place where it stopped, what the names hold, the things of the piles)."""
     playing = Playing(made_program(program), choices)
-    goes_on = True
-    while goes_on:
-        goes_on = playing.go_on()
-    things = playing.things
+    things = done(playing)
     return (tuple(things.events), things.steps, playing.place, things.held(), things.lying())

@@ -1,6 +1,7 @@
 """The plays in which two things go the walker's way."""
 
 from anytwo.layouts import laid_out, ways
+from anytwo.statements import BRANCHES
 from anytwo.things import Things
 
 
@@ -12,7 +13,7 @@ def replayed(program, way):
     choices = []
     for state, behind in zip(way, way[1:]):
         statement, after = laid[state[0]]
-        if statement[0] in ("loop", "either"):
+        if statement[0] in BRANCHES:
             choices.append(ways(state[0], statement, after).index(behind[0]))
         else:
             choice = 0

@@ -1,5 +1,6 @@
 """Plays in words."""
 
+from anytwo.playing import Playing
 from anytwo.programs import made_program
 from anytwo.tablechecks import made_table
 from anytwo.watching import watched
@@ -7,7 +8,9 @@ from anytwo.watching import watched
 
 def told_run(program, table_, choices):
     """A row for each event of the play, up to the one at which a pair first breaks the table."""
-    events, found = watched(made_program(program), made_table(table_), choices)
+    made_program(program)
+    made_table(table_)
+    events, found = watched(Playing(program, choices), table_)
     marks = {}
     if found is not None:
         _, elder, younger = found

@@ -16,6 +16,10 @@ FORMS = {
     "either": ("body", "body"),
 }
 
+# The statements that lead to one of two places, and all that take a choice.
+BRANCHES = ("loop", "either")
+CHOOSERS = ("loop", "either", "take")
+
 
 def fits(kind, part):
     """Whether part may stand where the form of a statement has this kind."""

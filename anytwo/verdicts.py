@@ -2,6 +2,7 @@
 
 from anytwo.errors import Kept, Refused
 from anytwo.pairs import broken_in_step
+from anytwo.playing import Playing
 from anytwo.programs import is_program, made_program
 from anytwo.replays import replayed
 from anytwo.searches import Search
@@ -15,7 +16,7 @@ def breaks_at(program, table_, choices):
     if not is_program(program) or not is_table(table_) or not is_row_of_numbers(choices):
         return None
     try:
-        return watched(program, table_, choices)[1]
+        return watched(Playing(program, choices), table_)[1]
     except Refused:
         return None
 

@@ -2,7 +2,7 @@
 
 from anytwo.layouts import end_of, first_place, ways
 from anytwo.letters import numbers_of
-from anytwo.statements import NAMES
+from anytwo.statements import BRANCHES, NAMES
 from anytwo.values import is_row_of_numbers
 
 # Where one of the two things may be, in their order. None: it is not picked yet; "x": it has ended.
@@ -41,7 +41,7 @@ def steps_at(laid, state):
     if place not in laid:
         return ()
     statement, behind = laid[place]
-    if statement[0] in ("loop", "either"):
+    if statement[0] in BRANCHES:
         return tuple([((), (onward, elder, younger)) for onward in sorted(set(ways(place, statement, behind)))])
     found = [(letters, (behind, *two)) for letters, two in moved_by(statement, (elder, younger))]
     return tuple(sorted(found, key=step_order))

@@ -1,8 +1,11 @@
 """Programs for tests, and all their short plays."""
 
 from anytwo.errors import Refused
+from anytwo.layouts import first_place
+from anytwo.letters import LETTERS
 from anytwo.places import places
 from anytwo.plays import play
+from anytwo.walker import steps_of
 from expressions import breaks
 
 NAMES = ("a", "b", "c", "d")
@@ -166,3 +169,90 @@ def met_words(source, program, most):
         choices += (source.randint(0, bounds_at(program, told)),)
         told = play(program, choices)
     return [word for word in words_of(told[0]).values() if "y.new" in word]
+
+
+def behind(many, tail):
+    """A program in which a goes through u so many letters ahead of the tail: one must know of all of these letters."""
+    either = ("either", (("do", "u", "a"),), (("do", "v", "a"),))
+    return (("new", "a"), ("new", "b"), ("loop", (either,)), ("do", "u", "a")) + (either,) * many + tail
+
+
+# Programs whose tables have just 199 and 200 states, and one whose table has more.
+STATES_199 = behind(4, (
+    ("loop", (("do", "u", "b"),)), ("either", (("do", "u", "a"),), (("do", "v", "a"),)),
+    ("either", (("do", "u", "a"),), (("do", "v", "a"),)), ("either", (("do", "u", "a"),), (("do", "v", "b"),)),
+    ("either", (("do", "w", "a"),), (("do", "u", "b"),)),
+))
+STATES_200 = behind(3, (
+    ("loop", (("do", "u", "b"),)), ("either", (("do", "u", "a"),), (("do", "v", "a"),)),
+    ("either", (("do", "u", "a"),), (("do", "v", "a"),)), ("either", (("do", "u", "a"),), (("do", "v", "a"),)),
+    ("either", (("do", "u", "a"),), (("do", "v", "b"),)), ("either", (("do", "w", "a"),), (("do", "u", "b"),)),
+))
+MANY_STATES = behind(7, (("do", "w", "a"),))
+
+
+class Walks:
+    """What is read on walks of a program, by sets of places: (state of the walker, letters yet to be read)."""
+
+    def __init__(self, program):
+        self.program = program
+        self.steps = {}
+        self.first = self.closed({((first_place(program), None, None), ())})
+
+    def steps_at(self, state):
+        if state not in self.steps:
+            self.steps[state] = steps_of(self.program, state)
+        return self.steps[state]
+
+    def closed(self, lot):
+        """The same with all that is come to by steps without letters."""
+        open_ones = list(lot)
+        lot = set(lot)
+        while open_ones:
+            state, rest = open_ones.pop()
+            if not rest:
+                for row, onward in self.steps_at(state):
+                    if row == () and (onward, ()) not in lot:
+                        lot.add((onward, ()))
+                        open_ones.append((onward, ()))
+        return lot
+
+    def led(self, lot, letter):
+        ahead = set()
+        for state, rest in lot:
+            if rest:
+                ahead |= {(state, rest[1:])} if rest[0] == letter else set()
+            else:
+                ahead |= {(onward, row[1:]) for row, onward in self.steps_at(state) if row[:1] == (letter,)}
+        # Behind the first of two letters one stands ahead of the state behind both.
+        return self.closed(ahead)
+
+    def heads(self, lot):
+        """The letters that lead on, in their order."""
+        rows = [rest for _, rest in lot if rest]
+        rows += [row for state, rest in lot if not rest for row, _ in self.steps_at(state) if row]
+        return sorted({row[0] for row in rows}, key=LETTERS.index)
+
+    def reads(self, word):
+        """Whether the word is read on some walk, and has y.new."""
+        lot = self.first
+        for letter in word:
+            lot = self.led(lot, letter)
+        return "y.new" in word and bool(lot)
+
+    def rows(self, most):
+        """All rows of up to so many letters that are read, shortest first."""
+        found = [((), self.first)]
+        for row, lot in found:
+            if len(row) < most:
+                found += [(row + (letter,), self.led(lot, letter)) for letter in self.heads(lot)]
+        return [row for row, _ in found]
+
+
+def pair_words_of(events):
+    """All words of the pairs in a play: all beginnings with y.new of what two things go through."""
+    found = set()
+    for word in words_of(events).values():
+        if "y.new" in word:
+            found |= {word[:many] for many in range(word.index("y.new") + 1, len(word) + 1)}
+    return found

@@ -34,6 +34,10 @@ INTERFACE = {
     },
     "yespapers": {"yes_paper": ["program", "table_"], "yes_right": ["program", "table_", "paper"]},
     "runs": {"told_run": ["program", "table_", "choices"]},
+    "programtables": {"program_table": ["program"], "tightest": ["program"]},
+    "alikes": {"alike": ["one", "two"], "parting": ["one", "two"], "part_of": ["one", "two"]},
+    "code": {"compiled": ["program"]},
+    "machine": {"run": ["code", "choices"], "watch": ["code", "table_", "choices"]},
 }
 
 BUILTINS = set((
