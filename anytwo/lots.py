@@ -71,7 +71,8 @@ class Lots:
     def leads(self, lot):
         """The lots to which the seventeen letters lead from a lot."""
         row = [0] * len(LETTERS)
-        for led, digit in zip(self.led, f"{lot:b}"[::-1]):
+        digits = f"{lot:b}"
+        for led, digit in zip(self.led, digits[::-1]):
             if digit == "1":
                 for letter, behind in led:
                     row[letter] |= behind

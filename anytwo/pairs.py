@@ -27,7 +27,7 @@ class Pairs:
         # For each thing the state of its pairs with all that are yet to be made.
         self.alone = []
         # For each held thing the things at rest, by its sign in the pair and the pair's state.
-        self.held = {}
+        self.in_names = {}
         self.seen = 0
 
     def first_break(self, events):
@@ -48,7 +48,7 @@ class Pairs:
             self.alone.append(0)
         else:
             self.alone[thing] = self.led["e." + deed][self.alone[thing]]
-        if thing not in self.held:
+        if thing not in self.in_names:
             self.pick_up(thing)
         broken = self.broken_at_rest(deed, thing) + self.broken_in_names(deed, thing)
         if deed in LAST_DEEDS:
@@ -59,7 +59,7 @@ class Pairs:
         """Its pairs with things at rest go on: those things of them with which it breaks the table."""
         broken = []
         together = {}
-        for (sign, state), others in self.held[thing].items():
+        for (sign, state), others in self.in_names[thing].items():
             key = (sign, self.led[sign + deed][state])
             if self.bad[key[1]]:
                 broken.extend(others)
@@ -67,13 +67,13 @@ class Pairs:
                 together[key].extend(others)
             else:
                 together[key] = others
-        self.held[thing] = together
+        self.in_names[thing] = together
         return broken
 
     def broken_in_names(self, deed, thing):
         """Its pairs with held things go on: those things of them with which it breaks the table."""
         broken = []
-        for other in self.held:
+        for other in self.in_names:
             if other != thing:
                 sign, state = self.key(thing, other)
                 behind = self.led[sign + deed][state]
@@ -94,23 +94,23 @@ class Pairs:
 
     def pick_up(self, thing):
         """The thing, which was just made or lay in a pile, is held from now on."""
-        for other, together in self.held.items():
+        for other, together in self.in_names.items():
             for (_, state), others in together.items():
                 if thing in others:
                     others.remove(thing)
                     self.note(thing, other, state)
         together = {}
         for other in range(len(self.rows)):
-            if other != thing and other not in self.held:
+            if other != thing and other not in self.in_names:
                 together.setdefault(self.key(thing, other), []).append(other)
-        self.held[thing] = together
+        self.in_names[thing] = together
 
     def lay_down(self, thing):
         """The thing is at rest from now on."""
-        for (_, state), others in self.held.pop(thing).items():
+        for (_, state), others in self.in_names.pop(thing).items():
             for other in others:
                 self.note(thing, other, state)
-        for other, together in self.held.items():
+        for other, together in self.in_names.items():
             together.setdefault(self.key(other, thing), []).append(thing)
 
 

@@ -37,6 +37,10 @@ INTERFACE = {
     "programtables": {"program_table": ["program"], "tightest": ["program"]},
     "alikes": {"alike": ["one", "two"], "parting": ["one", "two"], "part_of": ["one", "two"]},
     "code": {"compiled": ["program"]},
+    "book": {"Book": ["program", "tables"]},
+    "reader": {"read": ["text"]},
+    "printer": {"told_text": ["program"]},
+    "rulereader": {"read_rule": ["text"], "told_rule": ["rule"]},
     "machine": {"run": ["code", "choices"], "watch": ["code", "table_", "choices"]},
 }
 
