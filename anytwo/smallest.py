@@ -7,8 +7,8 @@ from anytwo.errors import TooMany
 from anytwo.letters import LETTERS, MAKING
 from anytwo.tablechecks import MOST_STATES
 
-# Two tables meet at most 200 * 200 pairs of states. Only sets of states can be more, and those without end in
-# practice; nothing is promised of a part that wants more than 5000 of them, so such a part is refused.
+# Two tables meet at most 200 * 200 pairs of states. Only sets of states, and lots of places on walks, can be more, and
+# those without end in practice; nothing is promised of more than 5000 and 2000 of them, so so many are refused.
 MOST_MET = 50000
 
 
