@@ -26,7 +26,7 @@ class Lots:
                     lots[behind] = self.lot_from(behind)
         self.first = self.lot_from(0)
         # For each place the letters that lead on from it, with the lots behind them.
-        self.led = [[(letter, lots[behind]) for letter, behind in pairs] for pairs in self.lettered]
+        self.led = [[(letter, lots[onward]) for letter, onward in row] for row in self.lettered]
 
     def note_walks(self, steps):
         """Note the places on the walker's steps, which are given for each of its states."""
